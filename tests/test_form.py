@@ -1,0 +1,234 @@
+"""The form of the package's files: the plainer part of the subset's rules, checked strictly."""
+
+import ast
+import builtins
+import re
+import unittest
+from pathlib import Path
+
+FOLDER = Path(__file__).parent.parent / "seenlots"
+FILES = sorted(FOLDER.glob("*.py"))
+
+# Files draw only from those ahead of them (the interface's order; values stands ahead of all).
+ORDER = ["errors", "values", "powers", "rows"]
+
+LIBRARY = {"math": {"gcd", "lcm", "isqrt", "comb", "perm", "factorial"}}
+
+BUILTINS = set("""len range enumerate zip min max sum abs sorted reversed int str bool list tuple dict set isinstance ord repr any
+    all divmod ValueError TypeError KeyError IndexError LookupError""".split())
+
+METHODS = set("""append clear copy count endswith extend find get index insert isdigit items join keys pop remove replace reverse
+    rfind rstrip setdefault split startswith strip update values zfill bit_length""".split())
+
+BARRED = set("""register mro elements open input law version_info with_traceback add_note attrgetter breakpoint builtins compile
+    copyright credits delattr dir eval exec exit gc getattr globals hasattr help id importlib license locals methodcaller os quit
+    setattr super type vars sys""".split())
+
+NODES = (
+    ast.Module, ast.FunctionDef, ast.ClassDef, ast.ImportFrom, ast.alias, ast.arguments, ast.arg, ast.Expr, ast.Constant,
+    ast.Assign, ast.If, ast.While, ast.For, ast.Return, ast.Break, ast.Continue, ast.Pass, ast.Raise, ast.Name, ast.Load,
+    ast.Store, ast.Tuple, ast.List, ast.Dict, ast.Set, ast.Call, ast.Attribute, ast.Subscript, ast.Slice, ast.BinOp, ast.UnaryOp,
+    ast.BoolOp, ast.Compare, ast.IfExp, ast.ListComp, ast.SetComp, ast.DictComp, ast.comprehension, ast.operator, ast.unaryop,
+    ast.boolop, ast.cmpop,
+)
+
+
+def trees():
+    for path in FILES:
+        yield path, ast.parse(path.read_text(encoding="utf-8"))
+
+
+def stores(node):
+    """All names that a node binds."""
+    for part in ast.walk(node):
+        if isinstance(part, ast.Name) and isinstance(part.ctx, ast.Store):
+            yield part.id
+        elif isinstance(part, (ast.FunctionDef, ast.ClassDef)):
+            yield part.name
+        elif isinstance(part, ast.arg):
+            yield part.arg
+        elif isinstance(part, ast.alias):
+            yield part.asname or part.name
+
+
+class Form(unittest.TestCase):
+    def test_files(self):
+        names = [path.name for path in FOLDER.iterdir() if path.name != "__pycache__"]
+        self.assertIn("__init__.py", names)
+        self.assertEqual(sorted(ORDER + ["__init__"]), sorted(name[:-3] for name in names))
+        for path in FILES:
+            text = path.read_bytes()
+            self.assertTrue(all(sign == 10 or 32 <= sign <= 126 for sign in text), path)
+            self.assertTrue(text.endswith(b"\n") and not text.endswith(b"\n\n"), path)
+            lines = text.decode().split("\n")
+            self.assertLessEqual(len(lines) - 1, 399, path)
+            for count, line in enumerate(lines, 1):
+                self.assertLessEqual(len(line), 120, (path, count))
+                self.assertEqual(line, line.rstrip(), (path, count))
+            self.assertNotIn("_wall", text.decode())
+
+    def test_nodes(self):
+        for path, tree in trees():
+            for node in ast.walk(tree):
+                self.assertIsInstance(node, NODES, (path.name, getattr(node, "lineno", 0)))
+                place = (path.name, getattr(node, "lineno", 0))
+                self.assertNotIsInstance(node, (ast.Div, ast.MatMult), place)
+                if isinstance(node, ast.BinOp) and isinstance(node.op, ast.Pow):
+                    self.assertIsInstance(node.right, ast.Constant, place)
+                if isinstance(node, ast.Constant):
+                    self.assertNotIsInstance(node.value, (float, complex, bytes, type(...)), place)
+                if isinstance(node, ast.Compare):
+                    for sign, side in zip(node.ops, node.comparators):
+                        if isinstance(sign, (ast.Is, ast.IsNot)):
+                            self.assertIsInstance(side, ast.Constant, place)
+                if isinstance(node, ast.FunctionDef):
+                    self.assertLessEqual(node.end_lineno - node.lineno + 1, 40, place)
+                    self.assertEqual(node.decorator_list, [], place)
+                    self.assertIsNone(node.returns, place)
+                    args = node.args
+                    self.assertEqual([args.posonlyargs, args.kwonlyargs, args.vararg, args.kwarg, args.defaults],
+                                     [[], [], None, None, []], place)
+                    self.assertTrue(all(arg.annotation is None for arg in args.args), place)
+
+    def test_top(self):
+        for path, tree in trees():
+            bound = []
+            for count, node in enumerate(tree.body):
+                place = (path.name, node.lineno)
+                if isinstance(node, ast.Expr):
+                    self.assertEqual(count, 0, place)
+                    self.assertIsInstance(node.value.value, str, place)
+                    continue
+                self.assertIsInstance(node, (ast.ImportFrom, ast.FunctionDef, ast.ClassDef, ast.Assign), place)
+                if isinstance(node, ast.Assign):
+                    self.assertEqual(len(node.targets), 1, place)
+                    self.assertIsInstance(node.targets[0], ast.Name, place)
+                    ast.literal_eval(node.value)
+                    bound.append(node.targets[0].id)
+                elif isinstance(node, ast.ImportFrom):
+                    bound += [part.name for part in node.names]
+                else:
+                    bound.append(node.name)
+                    for inner in ast.walk(node):
+                        if inner is not node and isinstance(node, ast.FunctionDef):
+                            self.assertNotIsInstance(inner, (ast.FunctionDef, ast.ImportFrom), place)
+            self.assertEqual(len(bound), len(set(bound)), path)
+            self.assertTrue(ast.get_docstring(tree), path)
+
+    def test_imports(self):
+        defined = {path.stem: {node.name for node in tree.body if isinstance(node, (ast.FunctionDef, ast.ClassDef))}
+                   for path, tree in trees()}
+        for path, tree in trees():
+            used = {node.id for node in ast.walk(tree) if isinstance(node, ast.Name)}
+            ended = False
+            for node in tree.body:
+                if not isinstance(node, ast.ImportFrom):
+                    ended = ended or not isinstance(node, ast.Expr)
+                    continue
+                place = (path.name, node.lineno)
+                self.assertFalse(ended, place)
+                self.assertEqual(node.level, 0, place)
+                self.assertTrue(all(part.asname is None for part in node.names), place)
+                names = {part.name for part in node.names}
+                self.assertLessEqual(names, used, place)
+                if node.module in LIBRARY:
+                    self.assertLessEqual(names, LIBRARY[node.module], place)
+                    continue
+                package, file = node.module.split(".")
+                self.assertEqual(package, "seenlots", place)
+                self.assertLess(ORDER.index(file), ORDER.index(path.stem), place)
+                self.assertLessEqual(names, defined[file], place)
+
+    def test_names(self):
+        for path, tree in trees():
+            fixed = {part.name for node in tree.body if isinstance(node, ast.ImportFrom) for part in node.names}
+            fixed |= {node.name for node in tree.body if isinstance(node, ast.ClassDef)}
+            for node in tree.body:
+                for name in stores(node):
+                    place = (path.name, node.lineno, name)
+                    self.assertTrue(name == "__init__" or not hasattr(builtins, name), place)
+                    self.assertNotIn(name, BARRED, place)
+                    self.assertRegex(name, r"\A(_|_?[A-Za-z][A-Za-z0-9_]*|__init__)\Z", place)
+                    if isinstance(node, ast.FunctionDef):
+                        self.assertNotIn(name, fixed, place)
+            read = [node.id for node in ast.walk(tree) if isinstance(node, ast.Name) and isinstance(node.ctx, ast.Load)]
+            self.assertNotIn("_", read, path)
+
+    def test_calls(self):
+        for path, tree in trees():
+            own = set(stores(tree))
+            parents = {child: node for node in ast.walk(tree) for child in ast.iter_child_nodes(node)}
+            for node in ast.walk(tree):
+                place = (path.name, getattr(node, "lineno", 0))
+                if isinstance(node, ast.Name) and isinstance(node.ctx, ast.Load) and node.id not in own:
+                    self.assertIn(node.id, BUILTINS, place)
+                    if not node.id.endswith("Error") and node.id not in ("int", "list", "tuple", "str", "dict", "bool"):
+                        self.assertIsInstance(parents[node], ast.Call, place)
+                        self.assertIs(parents[node].func, node, place)
+                if isinstance(node, ast.Call):
+                    self.assertEqual(node.keywords, [], place)
+                    self.assertFalse(any(isinstance(arg, ast.Starred) for arg in node.args), place)
+                    if isinstance(node.func, ast.Attribute):
+                        self.assertIn(node.func.attr, METHODS, place)
+                    if isinstance(node.func, ast.Name) and node.func.id in LIBRARY["math"]:
+                        self.assertIn(len(node.args), (1, 2), place)
+                if isinstance(node, (ast.Set, ast.SetComp)) or self.is_call_of(node, "set"):
+                    # Sets are only sorted on the spot.
+                    self.assertTrue(self.is_call_of(parents[node], "sorted") or self.is_call_of(parents[node], "len"), place)
+                if isinstance(node, ast.Attribute) and not isinstance(parents[node], ast.Call):
+                    self.assertIsInstance(node.ctx, ast.Store, place)
+                    self.assertEqual(node.value.id, "self", place)
+                for word in ("zip", "enumerate", "range", "reversed"):
+                    if self.is_call_of(node, word):
+                        self.assertIsInstance(parents[node], (ast.For, ast.comprehension), place)
+
+    def is_call_of(self, node, name):
+        return isinstance(node, ast.Call) and isinstance(node.func, ast.Name) and node.func.id == name
+
+    def test_loops(self):
+        # What a loop goes over by its name is not assigned or changed in it.
+        for path, tree in trees():
+            for node in ast.walk(tree):
+                if not isinstance(node, ast.For):
+                    continue
+                over = {part.id for part in ast.walk(node.iter) if isinstance(part, ast.Name)}
+                for part in [inner for line in node.body for inner in ast.walk(line)]:
+                    place = (path.name, part.lineno if hasattr(part, "lineno") else node.lineno)
+                    if isinstance(part, ast.Call) and isinstance(part.func, ast.Attribute):
+                        if part.func.attr in ("append", "extend", "insert", "pop", "remove", "clear", "reverse", "update"):
+                            self.assertNotIn(getattr(part.func.value, "id", ""), over, place)
+                    if isinstance(part, ast.Subscript) and isinstance(part.ctx, ast.Store):
+                        inside = node.iter.func.id if isinstance(node.iter, ast.Call) else ""
+                        if inside != "range":
+                            self.assertNotIn(getattr(part.value, "id", ""), over, place)
+
+    def test_texts(self):
+        for path, tree in trees():
+            docs = {id(node.body[0].value) for node in ast.walk(tree)
+                    if isinstance(node, (ast.Module, ast.FunctionDef, ast.ClassDef)) and ast.get_docstring(node)}
+            for node in ast.walk(tree):
+                if isinstance(node, ast.Constant) and isinstance(node.value, str) and id(node) not in docs:
+                    self.assertNotRegex(node.value, r"%|__|\btype\b|\benum\b", (path.name, node.lineno))
+            for node in ast.walk(tree):
+                if isinstance(node, ast.FunctionDef) and node.name != "__init__":
+                    self.assertTrue(ast.get_docstring(node), (path.name, node.name))
+
+    def test_words(self):
+        words = r"\b(typing|enum|Enum|Flag|Generic|Protocol|ABC|namedtuple|dataclass|overload|contextmanager|async|yield|global)\b"
+        for path in FILES:
+            self.assertIsNone(re.search(words, path.read_text(encoding="utf-8")), path)
+
+    def test_no_unused(self):
+        for path, tree in trees():
+            for node in ast.walk(tree):
+                if isinstance(node, ast.FunctionDef):
+                    names = [part for part in ast.walk(node) if isinstance(part, ast.Name)]
+                    read = {part.id for part in names if isinstance(part.ctx, ast.Load)}
+                    bound = {part.id for part in names if isinstance(part.ctx, ast.Store)} - {"_"}
+                    if node.name != "__init__":
+                        bound |= {arg.arg for arg in node.args.args}
+                    self.assertLessEqual(bound, read, (path.name, node.name))
+
+
+if __name__ == "__main__":
+    unittest.main()

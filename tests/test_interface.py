@@ -1,0 +1,64 @@
+"""The names, parameters and files of the interface, as far as it has landed, and the errors."""
+
+import importlib
+import inspect
+import unittest
+
+ERRORS = {
+    LookupError: {"NoView": "number", "NoNumber": "number", "NoWord": "word", "NothingDone": ""},
+    ValueError: {"Unfit": "", "NoPaper": "", "TooMany": "", "BadText": "", "BadLine": "number"},
+}
+
+FUNCTIONS = {
+    "powers": """is_powers(thing) powers_of(numbers,shares) powers_times(one,other) powers_over(one,other)
+        powers_to(powers,much) compared(one,other) ranked(several) worth_of(powers) whole_part(powers)
+        part_at(powers,many) root_part(number,many) first_above(powers,other)""",
+    "rows": """is_rows(thing,size) is_stepped(thing,size) stepped(rows) same_sums(rows,other) rank_of(rows)
+        det_of(table) filled(rows) is_full(rows) index_of(rows) whole_shares(rows,row) is_shares(rows,row,thing)
+        whole_bar(rows,row) is_bar(rows,row,thing) turner(rows) is_turner(rows,thing) completed(rows,size)
+        is_completed(rows,size,thing)""",
+}
+
+
+class Interface(unittest.TestCase):
+    def test_functions(self):
+        for file, told in FUNCTIONS.items():
+            module = importlib.import_module("seenlots." + file)
+            for text in told.split():
+                name, _, names = text[:-1].partition("(")
+                function = getattr(module, name)
+                self.assertTrue(inspect.isfunction(function), name)
+                self.assertEqual(function.__module__, "seenlots." + file, name)
+                self.assertEqual(list(inspect.signature(function).parameters), names.split(","), name)
+
+    def test_errors(self):
+        module = importlib.import_module("seenlots.errors")
+        classes = [value for value in vars(module).values() if inspect.isclass(value)]
+        self.assertEqual(len(classes), 9)
+        for base, told in ERRORS.items():
+            for name, attribute in told.items():
+                kind = getattr(module, name)
+                self.assertIn(kind, classes)
+                self.assertEqual(kind.__module__, "seenlots.errors")
+                self.assertEqual(kind.__bases__, (base,), name)
+                if not attribute:
+                    self.assertEqual(vars(kind()), {}, name)
+                    continue
+                for value in (0, -3, 10 ** 20, "word", ""):
+                    self.assertEqual(vars(kind(value)), {attribute: value}, name)
+                    self.assertEqual(vars(kind(**{attribute: value})), {attribute: value}, name)
+                with self.assertRaises(TypeError):
+                    kind()
+
+    def test_errors_are_caught(self):
+        module = importlib.import_module("seenlots.errors")
+        with self.assertRaises(LookupError) as caught:
+            raise module.NoView(3)
+        self.assertEqual(caught.exception.number, 3)
+        with self.assertRaises(ValueError) as caught:
+            raise module.BadLine(0)
+        self.assertEqual(caught.exception.number, 0)
+
+
+if __name__ == "__main__":
+    unittest.main()
