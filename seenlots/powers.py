@@ -121,7 +121,7 @@ def part_at(powers, many):
 
 def root_part(number, many):
     """The greatest number whose power many is at most number."""
-    if number < 2 or many == 1:
+    if number < 2:
         return number
     if many >= number.bit_length():
         return 1
@@ -193,7 +193,7 @@ def coprime_bases(numbers):
         common = gcd(base, number)
         bases.remove(base)
         waiting.extend([base // common, common, number // common])
-    return sorted(bases)
+    return bases
 
 
 def base_exponents(pairs):

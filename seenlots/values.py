@@ -28,16 +28,9 @@ def frozen(value):
 
 
 def fraction(top, bottom):
-    """The FRACTION of top divided by bottom, a number other than 0."""
+    """The FRACTION of top divided by bottom, a number from 1."""
     common = gcd(top, bottom)
-    if bottom < 0:
-        common = -common
     return (top // common, bottom // common)
-
-
-def fraction_sum(one, other):
-    """Both FRACTIONS added up."""
-    return fraction(one[0] * other[1] + other[0] * one[1], one[1] * other[1])
 
 
 def fraction_times(one, other):

@@ -5,7 +5,7 @@ import unittest
 from pathlib import Path
 
 FOLDER = Path(__file__).parent / "examples"
-FILES = ("errors", "powers", "rows")
+FILES = ("errors", "powers", "rows", "spaces", "views", "lots", "kinds")
 
 
 def all_names():
@@ -46,7 +46,7 @@ class Examples(unittest.TestCase):
                 else:
                     count += 1
                     self.assertEqual(result, behind, line)
-        self.assertEqual(count, 13)
+        self.assertEqual(count, 45)
 
 
 if __name__ == "__main__":

@@ -10,7 +10,7 @@ FOLDER = Path(__file__).parent.parent / "seenlots"
 FILES = sorted(FOLDER.glob("*.py"))
 
 # Files draw only from those ahead of them (the interface's order; values stands ahead of all).
-ORDER = ["errors", "values", "powers", "rows"]
+ORDER = ["errors", "values", "powers", "rows", "spaces", "views", "lots", "kinds"]
 
 LIBRARY = {"math": {"gcd", "lcm", "isqrt", "comb", "perm", "factorial"}}
 

@@ -17,6 +17,21 @@ FUNCTIONS = {
         det_of(table) filled(rows) is_full(rows) index_of(rows) whole_shares(rows,row) is_shares(rows,row,thing)
         whole_bar(rows,row) is_bar(rows,row,thing) turner(rows) is_turner(rows,thing) completed(rows,size)
         is_completed(rows,size,thing)""",
+    "spaces": """is_space(thing,size) whole_space(size) is_in(space,point) taken(space,point) within(space,other)
+        sum_space(space,other) meet(space,other) zeros_of(rows,size) image(view,space) image_dim(view,space)
+        back_image(view,space,size) rest_of(outer,inner) is_rest(outer,inner,thing) is_chain(thing,size)
+        longest(chain,size) is_longest(chain,size,thing) small_spaces(size,most)""",
+    "views": """is_view(thing,size) is_sight(thing) shown(sight,number,point) kernel(sight,number)
+        common_kernel(sight,numbers) dims(sight,space) inside(sight,space) beyond(sight,space)
+        from_inside(sight,space,inner) from_beyond(sight,space,outer) with_view(sight,view)
+        only_views(sight,numbers) joined_view(sight,numbers) based(sight,base) beside(one,other) alike(one,other)
+        finer(sight,number,other)""",
+    "lots": """is_lot(thing,size) shown_lot(view,lot) image_sizes(sight,lot) fibres(view,lot) spread(view,lot)
+        parts(size,space,lot) box(size,space,side) box_of(size,rows,sides) lot_sum(lot,other) lot_moved(lot,point)
+        lot_product(lot,other) keeps(sight,shares,lot) reaches(sight,shares,lot)""",
+    "kinds": """all_kinds(sight) kinds_of_dim(sight,dim) hard_kinds(sight) is_kind(sight,thing)
+        space_of_kind(sight,kind) is_space_of_kind(sight,kind,thing) free_kind(sight,dim) hidden_lots(sight)
+        hidden_point(sight,numbers) is_hidden_point(sight,numbers,thing)""",
 }
 
 

@@ -245,6 +245,13 @@ class Parts(unittest.TestCase):
                          10 ** 40 + 5 * 10 ** 27 + 375 * 10 ** 13 + 3125)
         self.assertEqual(whole_part(((BIG, HALF), (BIG - 2, HALF))), BIG - 2)
         self.assertEqual(whole_part(((BIG, HALF), (BIG - 2, HALF), (BIG, ONE))), BIG * (BIG - 1) - 1)
+        # The root of (N - 1) (N + 1) is less than N by 1 in 2 N, N being 10 ** 20.
+        below, above = (10 ** 10 - 1, 10 ** 10 + 1), (10_001, 1_676_321, 5_964_848_081)
+        almost = tuple((number, HALF) for number in below + above)
+        self.assertEqual(whole_part(almost), 10 ** 20 - 1)
+        self.assertEqual(compared(almost, ((10, (20, 1)),)), -1)
+        self.assertEqual(part_at(almost, 10 ** 6), (10 ** 26 - 1, 10 ** 6))
+        self.assertEqual(whole_part(powers_over(((10, (40, 1)),), almost)), 10 ** 20)
         some = Random(8)
         for _ in range(12):
             powers = tuple((some.randint(1, BIG), (some.randint(-3, 3), some.choice((1, 2, 3)))) for _ in range(4))
