@@ -7,10 +7,11 @@ from math import lcm, prod
 from random import Random
 
 from seenlots.errors import TooMany, Unfit
+from seenlots.kinds import all_kinds, hard_kinds, space_of_kind
 from seenlots.lots import box, box_of, fibres, image_sizes, is_lot, keeps, lot_moved, lot_product, lot_sum, parts, reaches
 from seenlots.lots import shown_lot, spread
 from seenlots.spaces import is_in, small_spaces, whole_space, zeros_of
-from seenlots.views import beyond, inside
+from seenlots.views import based, beyond, finer, inside, kernel
 from tests.sights import BOXES, SLANT, small_sights
 from tests.test_spaces import some_view
 from tests.test_views import seen
@@ -205,6 +206,47 @@ class Kept(unittest.TestCase):
         self.assertIs(reaches(SLANT, (one, one, half), SQUARE), False)
         self.assertIs(keeps((2, ()), (), SQUARE), False)
         self.assertIs(reaches((2, ()), (), ((5, 5),)), True)
+
+    def test_finer_views_show_no_less(self):
+        # Exactly if one VIEW's kernel lies within another's its image has at least as many, FOR ALL LOTS.
+        for sight in small_sights(17, 20):
+            size, views = sight
+            lots = some_lots(18, size, 4)
+            for one, other in product(range(len(views)), repeat=2):
+                if finer(sight, one, other):
+                    for lot in lots:
+                        sizes = image_sizes(sight, lot)
+                        self.assertGreaterEqual(sizes[one], sizes[other])
+                else:
+                    hidden = next(point for point in kernel(sight, one) if any(seen(views[other], point)))
+                    sizes = image_sizes(sight, tuple(sorted(((0,) * size, hidden))))
+                    self.assertEqual((sizes[one], sizes[other]), (1, 2))
+
+    def test_based_lots(self):
+        # What base shows of a LOT is a LOT with as many POINTS and images as great.
+        base = ((1, 2, 0), (0, 1, 1), (1, 2, 1))
+        for sight in small_sights(19, 20):
+            if sight[0] == 3:
+                for lot in some_lots(20, 3, 4):
+                    led = shown_lot(base, lot)
+                    self.assertEqual(len(led), len(lot))
+                    self.assertEqual(image_sizes(based(sight, base), led), image_sizes(sight, lot))
+
+    def test_shares_that_hold_keep_all(self):
+        # No kind that is there has an excess: the SHARES keep each LOT; a kind with one: a box breaks them.
+        some = Random(21)
+        for sight in small_sights(22, 25):
+            for _ in range(6):
+                shares = tuple(some.choice(FRACTIONS[:4]) for _ in sight[1])
+                above = [kind for kind in all_kinds(sight) if kind[0] > sum(
+                    Fraction(*share) * part for share, part in zip(shares, kind[1]))]
+                hard = [kind for kind in hard_kinds(sight) if kind in above]
+                self.assertEqual(hard == [], above == [])
+                if not above:
+                    self.assertTrue(all(keeps(sight, shares, lot) for lot in some_lots(23, sight[0], 4)))
+                elif above[0][0] == 1:
+                    line = space_of_kind(sight, above[0])
+                    self.assertFalse(keeps(sight, shares, box(sight[0], line, 4096)))
 
     def test_shares_that_hold(self):
         # Halves hold for the three faces of a room: all boxes reach them, no LOT breaks them.
