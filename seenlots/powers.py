@@ -1,11 +1,14 @@
 """Products of powers: POWERS, compared exactly by whole numbers alone."""
 
-from math import gcd, lcm
+from math import gcd, isqrt, lcm
 
 from seenlots.errors import NoPaper, Unfit
 from seenlots.values import fraction, fraction_times, frozen, is_fraction, is_number
 
-FIRST_BITS = 128
+# Products of so many binary digits are written out; of greater ones the logarithms are bounded.
+MOST_BITS = 4096
+
+FIRST_BITS = 64
 
 
 def is_powers(thing):
@@ -45,15 +48,39 @@ def powers_to(powers, much):
 
 def compared(one, other):
     """-1, 0 or 1: the product of one is less than, equal to, greater than that of other."""
-    pairs, _ = whole_exponents(powers_over(one, other))
-    low, high = log_bounds(pairs, FIRST_BITS)
+    pairs, _ = whole_exponents(list(one) + [(number, (-much[0], much[1])) for number, much in other])
+    return sign_of(pairs)
+
+
+def sign_of(pairs):
+    """-1, 0 or 1: the product of pairs with whole exponents is less than, equal to, greater than 1."""
+    if bits_of(pairs) <= MOST_BITS:
+        top, bottom = written_out(pairs)
+        return (top > bottom) - (top < bottom)
+    bits = FIRST_BITS
+    low, high = log_bounds(pairs, bits)
     if low <= 0 <= high and is_one(pairs):
         return 0
-    bits = FIRST_BITS
     while low <= 0 <= high:
         bits = bits * 2
         low, high = log_bounds(pairs, bits)
     return 1 if low > 0 else -1
+
+
+def bits_of(pairs):
+    """At least as many binary digits as the powers with whole exponents have together."""
+    return sum([number.bit_length() * abs(times) for number, times in pairs])
+
+
+def written_out(pairs):
+    """All powers with exponents above 0, multiplied; and all those with exponents below 0, turned over."""
+    top, bottom = 1, 1
+    for number, times in pairs:
+        if times > 0:
+            top = top * to_power(number, times)
+        else:
+            bottom = bottom * to_power(number, -times)
+    return top, bottom
 
 
 def ranked(several):
@@ -85,33 +112,45 @@ def worth_of(powers):
 def whole_part(powers):
     """The greatest number, from 0, that is at most the product."""
     pairs, many = whole_exponents(powers)
-    bits = FIRST_BITS
-    while True:
-        low, high = log_bounds(pairs, bits)
-        surely = last_within(many, low, bits, 1)
-        perhaps = last_within(many, high, bits, 0)
-        if perhaps <= surely + 1:
-            break
-        bits = bits * 2
-    if perhaps > surely and compared(((perhaps, (1, 1)),), powers) <= 0:
-        return perhaps
+    total = bits_of(pairs)
+    if total > MOST_BITS:
+        _, high = log_bounds(pairs, FIRST_BITS)
+        # Half the logarithm of 2 is more than a third: no more binary digits has the product.
+        digits = max(0, high) * 3 // (many << FIRST_BITS) + 2
+        if many > 24 or total > 4 * many * digits:
+            return part_by_logs(powers, pairs, many, FIRST_BITS + digits)
+    top, bottom = written_out(pairs)
+    return root_part(top // bottom, many)
+
+
+def part_by_logs(powers, pairs, many, bits):
+    """The whole part of a product, told its pairs with whole exponents, by bounds with so many binary digits."""
+    low, high = log_bounds(pairs, bits)
+    surely, _ = exp_bounds(low // many, bits)
+    _, perhaps = exp_bounds(-(-high // many), bits)
+    while surely < perhaps:
+        middle = (surely + perhaps + 1) // 2
+        if compared([(middle, (1, 1))], powers) <= 0:
+            surely = middle
+        else:
+            perhaps = middle - 1
     return surely
 
 
-def last_within(many, limit, bits, side):
-    """A number within the limit by its bound of this side (0 below, 1 above), the next one being beyond it."""
-    two = artanh_bounds(1, 3, bits)
-    above = 1
-    while many * number_bounds(above, bits, two)[side] <= limit:
-        above = above * 2
-    below = above // 2
-    while above - below > 1:
-        middle = (above + below) // 2
-        if many * number_bounds(middle, bits, two)[side] <= limit:
-            below = middle
-        else:
-            above = middle
-    return below
+def exp_bounds(half, bits):
+    """Whole parts of bounds of what has half as its half logarithm, times 2 to the power bits; 0 for less than 1."""
+    if half < 0:
+        return 0, 0
+    two_low, two_high = artanh_bounds(1, 3, bits)
+    size = half // two_high
+    low, high = 0, 0
+    below, above, place = 1 << bits, 1 << bits, 0
+    while below > 0:
+        low, high, place = low + below, high + above, place + 1
+        below = (below * 2 * (half - size * two_high) >> bits) // place
+        above = (above * 2 * (half - size * two_low) >> bits) // place + 1
+    # All further parts come to less than the first of them once more.
+    return (low << size) >> bits, ((high + 2 * above) << size) >> bits
 
 
 def part_at(powers, many):
@@ -121,12 +160,19 @@ def part_at(powers, many):
 
 def root_part(number, many):
     """The greatest number whose power many is at most number."""
-    if number < 2:
+    if number < 2 or many == 1:
         return number
-    if many >= number.bit_length():
+    digits = number.bit_length() // many
+    if digits == 0:
         return 1
+    if many & 1 == 0:
+        return root_part(isqrt(number), many // 2)
+    guess = 2 << digits
+    if digits > 256:
+        # The root of the first half of its digits, and one more, is a start close above.
+        behind = digits // 2
+        guess = (root_part(number >> (many * behind), many) + 1) << behind
     # Newton's steps go down to the root from every start above it.
-    guess = 1 << (number.bit_length() // many + 1)
     while True:
         better = ((many - 1) * guess + number // to_power(guess, many - 1)) // many
         if better >= guess:
@@ -136,14 +182,20 @@ def root_part(number, many):
 
 def first_above(powers, other):
     """The least number k, from 0, such that the product to the power k is above that of other."""
-    if compared((), other) > 0:
+    pairs, many = whole_exponents(powers)
+    others, count = whole_exponents(other)
+    if sign_of(others) < 0:
         return 0
-    if compared(powers, ()) <= 0:
+    if sign_of(pairs) <= 0:
         raise NoPaper()
-    above = 1
-    while compared(powers_to(powers, (above, 1)), other) <= 0:
-        above = above * 2
-    below = above // 2
+    bits = FIRST_BITS
+    low, high = log_bounds(pairs, bits)
+    while low <= 0:
+        bits = bits * 2
+        low, high = log_bounds(pairs, bits)
+    least, most = log_bounds(others, bits)
+    below = max(0, least) * many // (high * count)
+    above = most * many // (low * count) + 1
     while above - below > 1:
         middle = (above + below) // 2
         if compared(powers_to(powers, (middle, 1)), other) <= 0:
@@ -155,13 +207,9 @@ def first_above(powers, other):
 
 def to_power(number, times):
     """The number to the power times, from 0."""
-    result = 1
-    while times > 0:
-        if times & 1:
-            result = result * number
-        times = times >> 1
-        if times > 0:
-            number = number * number
+    result = number ** (int(times) % 64)
+    if times > 63:
+        result = result * to_power(number ** 64, times // 64)
     return result
 
 
@@ -169,12 +217,12 @@ def whole_exponents(powers):
     """Pairs with whole exponents, numbers above 1, of the product to the power many; and many."""
     many = 1
     for _, much in powers:
-        many = lcm(many, much[1])
+        if many % much[1] != 0:
+            many = lcm(many, much[1])
     table = {}
     for number, much in powers:
         table[number] = table.get(number, 0) + much[0] * (many // much[1])
-    pairs = [(number, times) for number, times in table.items() if number > 1 and times != 0]
-    return pairs, many
+    return [(number, times) for number, times in table.items() if number > 1 and times != 0], many
 
 
 def coprime_bases(numbers):
@@ -235,26 +283,25 @@ def log_bounds(pairs, bits):
 
 def number_bounds(number, bits, two):
     """The like for one number, told the like for 2."""
-    if number == 1:
-        return 0, 0
-    # Half the logarithm of a number m times 2 to the power e is e times that of 2 and artanh of (m - 1) / (m + 1).
     size = number.bit_length() - 1
-    unit = 1 << size
-    below, above = artanh_bounds(number - unit, number + unit, bits)
-    return size * two[0] + below, size * two[1] + above
+    behind = max(0, size - bits - 16)
+    # Half the logarithm of a number m times 2 to the power e is e times that of 2 and artanh of (m - 1) / (m + 1);
+    # the digits behind the first ones make less than 1 of it.
+    first, unit = number >> behind, 1 << (size - behind)
+    below, above = artanh_bounds(first - unit, first + unit, bits)
+    return size * two[0] + below, size * two[1] + above + min(1, behind)
 
 
 def artanh_bounds(top, bottom, bits):
     """Bounds of the sum of z**k / k over odd k, times 2 to the power bits, z = top/bottom from 0 to 1/3."""
-    below = (top << bits) // bottom
-    above = below + 1
-    top, bottom = top * top, bottom * bottom
-    low, high, place = 0, 0, 1
-    while below > 0:
-        low = low + below // place
-        high = high + above // place + 1
-        below = below * top // bottom
-        above = above * top // bottom + 1
+    if top == 0:
+        return 0, 0
+    part = (top << bits) // bottom
+    square = part * part >> bits
+    low, place = 0, 1
+    while part > 0:
+        low = low + part // place
+        part = part * square >> bits
         place = place + 2
-    # All further parts come to less than twice the first of them.
-    return low, high + 2 * above
+    # Each power is less than 2 too small, each part of the sum so less than 1 and 2 / place; the rest is less than 3.
+    return low, low + place + 8

@@ -1,7 +1,9 @@
 """Rows of whole numbers: stepped TABLES, their whole sums, and papers for both answers."""
 
+from math import gcd
+
 from seenlots.errors import Unfit
-from seenlots.values import combined, fraction, frozen, is_fraction, is_row, turned, unit_rows
+from seenlots.values import combined, dot, fraction, frozen, is_fraction, is_row, turned, unit_rows
 
 
 def is_rows(thing, size):
@@ -89,7 +91,10 @@ def same_sums(rows, other):
 
 def rank_of(rows):
     """How many ROWS the stepped TABLE has."""
-    return len(stepped(rows))
+    if len(rows) == 0:
+        return 0
+    size = len(rows[0])
+    return len(stepped(rows)) if size > 3 else rank_and_row(rows, size)[0]
 
 
 def det_of(table):
@@ -113,10 +118,91 @@ def det_of(table):
 
 def null_rows(rows, size):
     """The SPACE of the ROWS of this size that show 0 of each of rows."""
+    if size > 3:
+        return null_by_steps(rows, size)
+    rank, told = flat_of(rows, size)
+    if rank == 0:
+        return unit_rows(size)
+    if rank == size:
+        return ()
+    if size == 2:
+        return (primitive((told[1], -told[0])),)
+    return (told,) if rank == 2 else plane_rows(told)
+
+
+def null_by_steps(rows, size):
+    """The like for whatever size, by whole row operations on the columns."""
     count = len(rows)
     joined = [column + unit for column, unit in zip(turned(rows, size), unit_rows(size))]
     table, rank = step_rows(joined, count)
     return stepped([row[count:] for row in table[rank:]])
+
+
+def flat_of(rows, size):
+    """Of ROWS of a size to 3 the rank; and a primitive ROW of which they are multiples, if the rank is 1, and less
+    than the size; one that shows 0 of them, if it is 2, and less."""
+    rank, told = rank_and_row(rows, size)
+    return (rank, ()) if rank in (0, size) else (rank, primitive(told))
+
+
+def rank_and_row(rows, size):
+    """The like with some ROW, perhaps not primitive."""
+    rank, told = 0, ()
+    for row in rows:
+        if rank == 0:
+            if any(row):
+                rank, told = 1, row
+        elif rank == 1:
+            across = cross_row(told, row) if size == 3 else ()
+            if size == 2 and told[0] * row[1] != told[1] * row[0] or any(across):
+                rank, told = 2, across
+        elif size == 3 and dot(told, row) != 0:
+            return 3, ()
+    return rank, told
+
+
+def cross_row(one, other):
+    """The ROW of three numbers that shows 0 of both; 0s if one is a multiple of the other."""
+    first, second, third = one
+    some, more, last = other
+    return second * last - third * more, third * some - first * last, first * more - second * some
+
+
+def primitive(row):
+    """The ROW, not of 0s, divided by what divides all its numbers, its lead made greater than 0."""
+    common = 0
+    for part in row:
+        common = gcd(common, part)
+    if row[lead_of(row)] < 0:
+        common = -common
+    return tuple([part // common for part in row])
+
+
+def plane_rows(normal):
+    """The SPACE of the ROWS that show 0 of this ROW of three numbers, primitive."""
+    first, second, third = normal
+    common = gcd(second, third)
+    if common == 0:
+        return ((0, 1, 0), (0, 0, 1))
+    second, third = second // common, third // common
+    if third == 0:
+        return ((common, -first * second, 0), (0, 0, 1))
+    # first * common + second * common * part + third * common * last is to be 0, part from 0 to below the lead.
+    if third < 0:
+        first, second, third = -first, -second, -third
+    part = -first * inverse(second, third) % third
+    return ((common, part, -(first + second * part) // third), (0, third, -second))
+
+
+def inverse(number, modulus):
+    """A number that times this one leaves 1, divided by modulus, which has no divisor in common with it."""
+    before, after = modulus, number % modulus
+    result, more = 0, 1
+    while after != 0:
+        times = before // after
+        before, after = after, before - times * after
+        result, more = more, result - times * more
+    return result
 
 
 def filled(rows):
@@ -124,7 +210,14 @@ def filled(rows):
     if len(rows) == 0:
         return ()
     size = len(rows[0])
-    return null_rows(null_rows(rows, size), size)
+    if size > 3:
+        return null_by_steps(null_by_steps(rows, size), size)
+    rank, told = flat_of(rows, size)
+    if rank == 0:
+        return ()
+    if rank == size:
+        return unit_rows(size)
+    return (told,) if rank == 1 else plane_rows(told)
 
 
 def is_full(rows):

@@ -1,14 +1,13 @@
 """Spaces of points: SPACES, their sums, meets, images, and chains of them."""
 
 from seenlots.errors import Unfit
-from seenlots.rows import completed, filled, is_full, is_rows, is_stepped, lead_of, null_rows, rank_of
-from seenlots.rows import step_shares, stepped
+from seenlots.rows import completed, filled, is_rows, is_stepped, lead_of, null_rows, rank_of, step_shares, stepped
 from seenlots.values import combined, dot, frozen, unit_rows
 
 
 def is_space(thing, size):
     """Whether thing is the TABLE of a SPACE of this size."""
-    return is_stepped(thing, size) and is_full(thing)
+    return is_stepped(thing, size) and filled(thing) == thing
 
 
 def whole_space(size):

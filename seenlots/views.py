@@ -2,7 +2,7 @@
 
 from seenlots.errors import NoView, Unfit
 from seenlots.rows import filled, is_rows, turner
-from seenlots.spaces import back_image, image_dim, meet, taken, whole_space, within, zeros_of
+from seenlots.spaces import back_image, image_dim, whole_space, within, zeros_of
 from seenlots.values import combined, dot, frozen, is_number
 
 
@@ -68,7 +68,7 @@ def beyond(sight, space):
     """The SIGHT BEYOND a SPACE."""
     size, views = sight
     told = told_beyond(size, space)
-    return len(told), tuple([told_of(told, view) for view in views])
+    return len(told), tuple([told_of(told, view, size) for view in views])
 
 
 def told_beyond(size, space):
@@ -78,9 +78,10 @@ def told_beyond(size, space):
     return zeros_of(space, size)
 
 
-def told_of(told, view):
+def told_of(told, view, size):
     """The SPACE of how often each ROW of told is taken in the sums of the ROWS of a VIEW."""
-    return filled([taken(told, row) for row in meet(filled(view), told)])
+    # A ROW is a sum of multiples of those of the VIEW exactly if it shows 0 of the kernel.
+    return zeros_of([seen_by(told, point) for point in zeros_of(view, size)], len(told))
 
 
 def from_inside(sight, space, inner):
