@@ -5,8 +5,10 @@ from math import gcd, isqrt, lcm
 from seenlots.errors import NoPaper, Unfit
 from seenlots.values import fraction, fraction_times, frozen, is_fraction, is_number
 
-# Products of so many binary digits are written out; of greater ones the logarithms are bounded.
+# Products of so many binary digits are written out; of greater ones the logarithms are bounded, and only those that
+# are close are then written out, up to so many.
 MOST_BITS = 4096
+CLOSE_BITS = 200000
 
 FIRST_BITS = 64
 
@@ -54,11 +56,13 @@ def compared(one, other):
 
 def sign_of(pairs):
     """-1, 0 or 1: the product of pairs with whole exponents is less than, equal to, greater than 1."""
-    if bits_of(pairs) <= MOST_BITS:
+    total = bits_of(pairs)
+    low, high, bits = 0, 0, FIRST_BITS
+    if total > MOST_BITS:
+        low, high = log_bounds(pairs, bits)
+    if low <= 0 <= high and total <= CLOSE_BITS:
         top, bottom = written_out(pairs)
         return (top > bottom) - (top < bottom)
-    bits = FIRST_BITS
-    low, high = log_bounds(pairs, bits)
     if low <= 0 <= high and is_one(pairs):
         return 0
     while low <= 0 <= high:

@@ -94,7 +94,23 @@ def rank_of(rows):
     if len(rows) == 0:
         return 0
     size = len(rows[0])
-    return len(stepped(rows)) if size > 3 else rank_and_row(rows, size)[0]
+    if size <= 3:
+        return rank_and_row(rows, size)[0]
+    basis = []
+    for row in rows:
+        basis = basis_with(basis, row)
+    return len(basis)
+
+
+def basis_with(basis, row):
+    """A list of pairs (lead, row), leads unlike, and such a pair for one ROW more, if it does not come of those."""
+    left = row
+    for lead, step in basis:
+        if left[lead] != 0:
+            much, less = step[lead], left[lead]
+            left = [much * part - less * other for part, other in zip(left, step)]
+    place = lead_of(left)
+    return basis if place == len(left) else basis + [(place, left)]
 
 
 def det_of(table):

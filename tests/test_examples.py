@@ -1,11 +1,12 @@
 """Every example of the document, as it stands there, in its order, with names kept from one to the next."""
 
+import doctest
 import importlib
 import unittest
 from pathlib import Path
 
 FOLDER = Path(__file__).parent / "examples"
-FILES = ("errors", "powers", "rows", "spaces", "views", "lots", "kinds")
+FILES = ("errors", "powers", "rows", "spaces", "views", "lots", "kinds", "holds", "reasons", "breaks", "region")
 
 
 def all_names():
@@ -46,7 +47,12 @@ class Examples(unittest.TestCase):
                 else:
                     count += 1
                     self.assertEqual(result, behind, line)
-        self.assertEqual(count, 45)
+        self.assertEqual(count, 76)
+
+    def test_readme(self):
+        failed, count = doctest.testfile(str(FOLDER.parent.parent / "README.md"), module_relative=False)
+        self.assertEqual(failed, 0)
+        self.assertGreater(count, 10)
 
 
 if __name__ == "__main__":

@@ -10,7 +10,7 @@ FOLDER = Path(__file__).parent.parent / "seenlots"
 FILES = sorted(FOLDER.glob("*.py"))
 
 # Files draw only from those ahead of them (the interface's order; values stands ahead of all).
-ORDER = ["errors", "values", "powers", "rows", "spaces", "views", "lots", "kinds"]
+ORDER = ["errors", "values", "powers", "rows", "spaces", "views", "lots", "kinds", "holds", "reasons", "breaks", "region"]
 
 LIBRARY = {"math": {"gcd", "lcm", "isqrt", "comb", "perm", "factorial"}}
 
@@ -29,7 +29,7 @@ NODES = (
     ast.Assign, ast.If, ast.While, ast.For, ast.Return, ast.Break, ast.Continue, ast.Pass, ast.Raise, ast.Name, ast.Load,
     ast.Store, ast.Tuple, ast.List, ast.Dict, ast.Set, ast.Call, ast.Attribute, ast.Subscript, ast.Slice, ast.BinOp, ast.UnaryOp,
     ast.BoolOp, ast.Compare, ast.IfExp, ast.ListComp, ast.SetComp, ast.DictComp, ast.comprehension, ast.operator, ast.unaryop,
-    ast.boolop, ast.cmpop,
+    ast.boolop, ast.cmpop, ast.JoinedStr, ast.FormattedValue, ast.Delete, ast.Del,
 )
 
 
@@ -75,6 +75,11 @@ class Form(unittest.TestCase):
                 self.assertNotIsInstance(node, (ast.Div, ast.MatMult), place)
                 if isinstance(node, ast.BinOp) and isinstance(node.op, ast.Pow):
                     self.assertTrue(self.is_exponent(node.right), place)
+                if isinstance(node, ast.Delete):
+                    self.assertTrue(all(isinstance(part, ast.Subscript) for part in node.targets), place)
+                if isinstance(node, ast.FormattedValue):
+                    self.assertIsInstance(node.value, ast.Name, place)
+                    self.assertEqual([part.value for part in node.format_spec.values], ["b"], place)
                 if isinstance(node, ast.Constant):
                     self.assertNotIsInstance(node.value, (float, complex, bytes, type(...)), place)
                 if isinstance(node, ast.Compare):

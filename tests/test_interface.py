@@ -32,6 +32,20 @@ FUNCTIONS = {
     "kinds": """all_kinds(sight) kinds_of_dim(sight,dim) hard_kinds(sight) is_kind(sight,thing)
         space_of_kind(sight,kind) is_space_of_kind(sight,kind,thing) free_kind(sight,dim) hidden_lots(sight)
         hidden_point(sight,numbers) is_hidden_point(sight,numbers,thing)""",
+    "holds": """excess(sight,shares,space) greatest_excess(sight,shares) least_space(sight,shares)
+        greatest_space(sight,shares) holds(sight,shares) too_great(sight,shares) is_too_great(sight,shares,thing)
+        even_space(sight,shares) is_even_space(sight,shares,thing) enough_share(sight,shares,number)
+        enough_times(sight,shares) in_parts(sight,shares,space)""",
+    "reasons": """is_leaf(sight,shares) reason(sight,shares) is_reason(sight,shares,thing) split_at(sight,shares,space)
+        raised(sight,shares,given,other) mixed(sight,parts) nodes(given) depth(given) parted_by(sight,given)
+        leaves_in(sight,shares,given)""",
+    "breaks": """box_lot(rows,sides) rooms(sight,rows,sides) lot_breaks(sight,shares,lot)
+        box_powers(sight,shares,rows,sides) surely_breaks(sight,shares,rows,sides) is_break(sight,shares,thing)
+        least_side(sight,shares,space,times) break_of(sight,shares) first_break(sight,shares)
+        broken_shares(sight,space,side,some)""",
+    "region": """corners(sight) mix_of(sight,shares) is_mix_of(sight,shares,thing) least_sum(sight,heights)
+        kind_weights(sight,heights) is_kind_weights(sight,heights,thing) least_of_view(sight,number) even_share(sight)
+        tight_kinds(sight,shares) leaned(sight,shares) as_far(sight,one,other) bearing_lots(sight)""",
 }
 
 

@@ -103,7 +103,7 @@ def spoiled(thing):
         if thing in (0, 1):
             yield bool(thing)
         yield None
-        yield str(thing)
+        yield thing.title() if isinstance(thing, str) else str(thing)
         yield (thing,)
         yield [thing]
         yield deep(tuple, 90)
