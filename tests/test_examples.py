@@ -6,7 +6,8 @@ import unittest
 from pathlib import Path
 
 FOLDER = Path(__file__).parent / "examples"
-FILES = ("errors", "powers", "rows", "spaces", "views", "lots", "kinds", "holds", "reasons", "breaks", "region")
+FILES = ("errors", "powers", "rows", "spaces", "views", "lots", "kinds", "holds", "reasons", "breaks", "region", "bounds",
+         "flags", "covers", "bases")
 
 
 def all_names():
@@ -47,7 +48,7 @@ class Examples(unittest.TestCase):
                 else:
                     count += 1
                     self.assertEqual(result, behind, line)
-        self.assertEqual(count, 76)
+        self.assertEqual(count, 104)
 
     def test_readme(self):
         failed, count = doctest.testfile(str(FOLDER.parent.parent / "README.md"), module_relative=False)

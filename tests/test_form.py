@@ -10,7 +10,8 @@ FOLDER = Path(__file__).parent.parent / "seenlots"
 FILES = sorted(FOLDER.glob("*.py"))
 
 # Files draw only from those ahead of them (the interface's order; values stands ahead of all).
-ORDER = ["errors", "values", "powers", "rows", "spaces", "views", "lots", "kinds", "holds", "reasons", "breaks", "region"]
+ORDER = ["errors", "values", "powers", "rows", "spaces", "views", "lots", "kinds", "holds", "reasons", "breaks", "region",
+         "bounds", "flags", "covers", "bases"]
 
 LIBRARY = {"math": {"gcd", "lcm", "isqrt", "comb", "perm", "factorial"}}
 
@@ -157,7 +158,7 @@ class Form(unittest.TestCase):
             for node in tree.body:
                 for name in stores(node):
                     place = (path.name, node.lineno, name)
-                    self.assertTrue(name == "__init__" or not hasattr(builtins, name), place)
+                    self.assertTrue(name in ("__init__", "_") or not hasattr(builtins, name), place)
                     self.assertNotIn(name, BARRED, place)
                     self.assertRegex(name, r"\A(_|_?[A-Za-z][A-Za-z0-9_]*|__init__)\Z", place)
                     if isinstance(node, ast.FunctionDef):

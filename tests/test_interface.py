@@ -46,6 +46,23 @@ FUNCTIONS = {
     "region": """corners(sight) mix_of(sight,shares) is_mix_of(sight,shares,thing) least_sum(sight,heights)
         kind_weights(sight,heights) is_kind_weights(sight,heights,thing) least_of_view(sight,number) even_share(sight)
         tight_kinds(sight,shares) leaned(sight,shares) as_far(sight,one,other) bearing_lots(sight)""",
+    "bounds": """bound(sizes,shares) whole_bound(sizes,shares) all_least(sight,sizes) tightest(sight,sizes)
+        most_points(sight,sizes) pressing(sight,sizes) gain(sight,sizes,number) least_size(sight,sizes,number,many)
+        reach(sight,sizes) is_reach(sight,sizes,thing) reach_worth(sizes,reach) ceiling(sight,sizes)
+        is_ceiling(sight,sizes,many,thing)""",
+    "flags": """is_flag(size,thing) flag_worth(pairs) flag_heights(sight,pairs) fits(sight,pairs,heights)
+        best_worth(sight,heights) best_flag(sight,heights) is_best_flag(sight,heights,thing) uncrossed(pairs)
+        flag_rows(flag) is_flag_rows(flag,thing) flag_box(flag,base) slopes(sight,shares) is_level(sight,shares)
+        level_parts(sight,shares)""",
+    "covers": """cover_sight(size,sets) is_cover(size,sets,thing) like_share(size,sets) corner_covers(size,sets)
+        least_cost(size,sets,heights) least_cover(size,sets,heights) best_packing(size,sets,heights)
+        is_packing(size,sets,heights,thing) cover_powers(size,sets,sizes) best_box(size,sets,sizes)
+        meeting_lot(size,sets,images) pressed(lot,place) pressed_down(lot) is_pressed(lot)""",
+    "bases": """line_sight(size,rows) line_rank(rows,chosen) line_closed(rows,chosen) line_flats(rows)
+        is_basis(size,rows,thing) all_bases(size,rows) may_leave(size,rows,basis,number) line_holds(size,rows,shares)
+        base_mix(size,rows,shares) is_base_mix(size,rows,shares,thing) short_flat(size,rows,shares)
+        is_short_flat(size,rows,shares,thing) even_line(size,rows) tight_flat(size,rows)
+        cheap_basis(size,rows,heights) cost_steps(size,rows,heights) is_cost_steps(size,rows,heights,thing)""",
 }
 
 
