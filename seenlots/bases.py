@@ -28,7 +28,7 @@ def all_ranks(rows):
     """For each set of numbers of rows its rank; the set is told by the number that has a bit for each of them."""
     bases = [[]]
     for row in rows:
-        bases.extend([basis_with(basis, row) for basis in bases])
+        bases = bases + [basis_with(basis, row) for basis in bases]
     return [len(basis) for basis in bases]
 
 

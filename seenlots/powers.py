@@ -147,14 +147,14 @@ def exp_bounds(half, bits):
         return 0, 0
     two_low, two_high = artanh_bounds(1, 3, bits)
     size = half // two_high
-    low, high = 0, 0
-    below, above, place = 1 << bits, 1 << bits, 0
-    while below > 0:
-        low, high, place = low + below, high + above, place + 1
-        below = (below * 2 * (half - size * two_high) >> bits) // place
-        above = (above * 2 * (half - size * two_low) >> bits) // place + 1
-    # All further parts come to less than the first of them once more.
-    return (low << size) >> bits, ((high + 2 * above) << size) >> bits
+    left = 2 * (half - size * two_high)
+    part, low, place = 1 << bits, 0, 0
+    while part > 0:
+        low, place = low + part, place + 1
+        part = (part * left >> bits) // place
+    # Each part is less than 4 too small, the rest less than 8; 9 for each by which what is left may be too small.
+    high = low + 4 * place + 8 + 9 * size * (two_high - two_low)
+    return (low << size) >> bits, (high << size) >> bits
 
 
 def part_at(powers, many):
@@ -301,11 +301,14 @@ def artanh_bounds(top, bottom, bits):
     if top == 0:
         return 0, 0
     part = (top << bits) // bottom
-    square = part * part >> bits
+    over, under = top * top, bottom * bottom
+    if under.bit_length() > 60:
+        over, under = part * part >> bits, 0
     low, place = 0, 1
     while part > 0:
         low = low + part // place
-        part = part * square >> bits
+        # Small numbers are quicker than a square of as many digits as the parts have.
+        part = part * over // under if under else part * over >> bits
         place = place + 2
     # Each power is less than 2 too small, each part of the sum so less than 1 and 2 / place; the rest is less than 3.
     return low, low + place + 8

@@ -208,7 +208,7 @@ def leaned(sight, shares):
     """The SHARES, VIEW by VIEW each made as small as can be such that all still hold."""
     found = held_kinds(sight, shares)
     left = list(shares)
-    for number in range(len(left)):
+    for number in range(len(shares)):
         left[number] = needed_share(found, left, number)
     return tuple(left)
 

@@ -11,6 +11,7 @@ from seenlots.holds import enough_share
 from seenlots.spaces import small_spaces
 from tests.sights import small_sights, some_sights
 from tests.test_many_kinds import told_kinds
+from tests.test_views import told_dims
 from tests.tools import rank
 
 NONE, ONE, HALF, THIRD = (0, 1), (1, 1), (1, 2), (1, 3)
@@ -54,6 +55,12 @@ def values(pairs):
 def kinds_of(sight):
     """The kinds that are there, by ranks."""
     return sorted(told_kinds(sight))
+
+
+@lru_cache(maxsize=None)
+def dims_of(sight, space):
+    """The DIMENSIONS of a SPACE, by ranks."""
+    return told_dims(sight, space)
 
 
 def told_excess(shares, kind):

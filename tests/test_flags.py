@@ -14,10 +14,9 @@ from seenlots.rows import filled, stepped
 from seenlots.spaces import is_chain, is_space, meet, small_spaces, sum_space, taken, whole_space, within
 from seenlots.views import beyond, inside
 from tests.shares import BLIND, GREAT, HALF, NONE, ONE, ROOM, SPACES, THIRD, fraction, is_blind, kinds_of, sights, some_shares
-from tests.shares import value
+from tests.shares import dims_of, value
 from tests.sights import CRATE, SLANT
 from tests.test_region import some_heights, total
-from tests.test_views import told_dims
 from tests.tools import ODD, agreed, check_thing, deep, det
 
 SIGHTS = sights(351, 12)
@@ -32,7 +31,7 @@ def told_worth(pairs):
 
 
 def told_heights(sight, pairs):
-    return [sum(value(weight) * told_dims(sight, space)[1][number] for space, weight in pairs) for number in range(len(sight[1]))]
+    return [sum(value(weight) * dims_of(sight, space)[1][number] for space, weight in pairs) for number in range(len(sight[1]))]
 
 
 def told_flag(size, thing):
@@ -127,7 +126,7 @@ class Best(unittest.TestCase):
                 # A FLAG that fits shows the sum least, told by the kinds.
                 table = {}
                 for space, weight in found:
-                    table[told_dims(sight, space)] = weight
+                    table[dims_of(sight, space)] = weight
                 self.assertIs(is_kind_weights(sight, heights, tuple(sorted(table.items()))), True)
         for sight in (SLANT, CRATE, ROOM[3]):
             for heights in some_heights(354, sight, 1)[::2]:
@@ -247,7 +246,7 @@ class Slopes(unittest.TestCase):
 
     def told_slope(self, sight, shares, outer, inner):
         """The slope of one SPACE over another one."""
-        more, less = told_dims(sight, outer), told_dims(sight, inner)
+        more, less = dims_of(sight, outer), dims_of(sight, inner)
         shown = sum(value(share) * (part - before) for share, part, before in zip(shares, more[1], less[1]))
         return shown / (more[0] - less[0])
 

@@ -12,9 +12,8 @@ from seenlots.lots import keeps
 from seenlots.spaces import is_space, meet, sum_space, whole_space, within
 from seenlots.views import beyond, inside
 from tests.shares import BLIND, FEW, GREAT, HALF, NONE, ONE, ROOM, SPACES, fraction, is_blind, kinds_of, sights, some_shares
-from tests.shares import told_excess, told_holds, value
+from tests.shares import dims_of, told_excess, told_holds, value
 from tests.sights import CRATE, SLANT
-from tests.test_views import told_dims
 from tests.tools import ODD, agreed, check_thing, deep, points
 
 SIGHTS = sights(301, 12)
@@ -32,7 +31,7 @@ class Excess(unittest.TestCase):
         for sight, shares in list(each())[::6]:
             for space in SPACES[sight[0]][::9] + [(), whole_space(sight[0])]:
                 told = agreed(self, excess, sight, shares, space)
-                self.assertEqual(told, fraction(told_excess(shares, told_dims(sight, space))))
+                self.assertEqual(told, fraction(told_excess(shares, dims_of(sight, space))))
         self.assertEqual(excess(SLANT, (HALF, HALF, ONE), ()), NONE)
         self.assertEqual(excess(SLANT, (NONE, NONE, NONE), ((1, 5),)), ONE)
         self.assertEqual(excess((3, ()), (), whole_space(3)), (3, 1))
@@ -44,17 +43,17 @@ class Excess(unittest.TestCase):
             low, high = least_space(sight, shares), greatest_space(sight, shares)
             for space in (low, high):
                 self.assertTrue(is_space(space, sight[0]))
-                self.assertEqual(told_excess(shares, told_dims(sight, space)), value(most))
+                self.assertEqual(told_excess(shares, dims_of(sight, space)), value(most))
             self.assertTrue(within(low, high))
             for space in SPACES[sight[0]]:
                 if len(low) <= len(space) <= len(high) or sight[0] < 3:
-                    above = told_excess(shares, told_dims(sight, space))
+                    above = told_excess(shares, dims_of(sight, space))
                     self.assertLessEqual(above, value(most))
                     if above == value(most):
                         # It has the least one in it and lies in the greatest.
                         self.assertTrue(within(low, space) and within(space, high), (sight, shares, space))
                 else:
-                    self.assertLess(told_excess(shares, told_dims(sight, space)), value(most))
+                    self.assertLess(told_excess(shares, dims_of(sight, space)), value(most))
 
     def test_ways(self):
         for sight, shares in list(each())[::9]:
@@ -119,17 +118,17 @@ class TooGreat(unittest.TestCase):
         for sight, shares in each():
             space = too_great(sight, shares)
             if space is not None:
-                self.assertGreater(told_excess(shares, told_dims(sight, space)), 0)
+                self.assertGreater(told_excess(shares, dims_of(sight, space)), 0)
                 self.assertIs(is_too_great(sight, shares, space), True)
         for sight, shares in list(each())[::12]:
             for space in SPACES[sight[0]][::4]:
-                self.assertIs(is_too_great(sight, shares, space), told_excess(shares, told_dims(sight, space)) > 0)
+                self.assertIs(is_too_great(sight, shares, space), told_excess(shares, dims_of(sight, space)) > 0)
 
     def test_things(self):
         few = (HALF, HALF, NONE)
         good = [((1, 0, 0), (0, 1, 0)), ((1, 0, 0), (0, 0, 1)), ((0, 1, 0), (0, 0, 1)), ((1, 0, 0), (0, 1, 0), (0, 0, 1)),
                 ((0, 0, 1),), ((1, 0, 0),), ((0, 1, 0),), ((2, 1, 0),), ((10 ** 30, 0, 1), (0, 1, 0))]
-        good = [space for space in good if told_excess(few, told_dims(CRATE, space)) > 0]
+        good = [space for space in good if told_excess(few, dims_of(CRATE, space)) > 0]
         self.assertGreater(len(good), 4)
         check_thing(self, is_too_great, CRATE, few, good=good)
         for thing in ((), ((0, 0, 0),), ((2, 0, 0),), ((-1, 0, 0),), ((1, 0), (0, 1)), ((1, 0, 0), (1, 1, 0)), deep(tuple, 100)):
@@ -151,7 +150,7 @@ class Even(unittest.TestCase):
             space = even_space(sight, shares)
             self.assertIs(space is None, even == [], (sight, shares))
             if space is not None:
-                self.assertIn(told_dims(sight, space), even)
+                self.assertIn(dims_of(sight, space), even)
                 self.assertIs(is_even_space(sight, shares, space), True)
         for sight, shares in list(each())[::14]:
             try:
@@ -162,7 +161,7 @@ class Even(unittest.TestCase):
     def test_is_even_space(self):
         for sight, shares in list(each())[::8]:
             for space in SPACES[sight[0]][::3]:
-                even = 0 < len(space) < sight[0] and told_excess(shares, told_dims(sight, space)) == 0
+                even = 0 < len(space) < sight[0] and told_excess(shares, dims_of(sight, space)) == 0
                 self.assertIs(is_even_space(sight, shares, space), even)
         good = [((1, -1),)]
         check_thing(self, is_even_space, SLANT, (HALF, HALF, ONE), good=good)
