@@ -118,6 +118,15 @@ def is_number_set(thing, many):
     return all([part < later for part, later in zip(thing, thing[1:])])
 
 
+def is_measure(thing, size):
+    """Whether thing is a set of pairs of a tuple of so many numbers, none twice, and a FRACTION above 0."""
+    if not isinstance(thing, tuple) or not all([isinstance(part, tuple) and len(part) == 2 for part in thing]):
+        return False
+    if not all([is_row(point, size) and is_fraction(much) and much[0] > 0 for point, much in thing]):
+        return False
+    return all([part[0] < later[0] for part, later in zip(thing, thing[1:])])
+
+
 def cut_corners(corners, plane, bit, least):
     """The corners of what is left of a body when a plane cuts off all where it shows less than 0.
 
@@ -214,3 +223,21 @@ def cleared_row(row, lead, entering, size):
     """A row made 0 at the entering place by the lead row, all rows being so many times as great."""
     pivot, less = lead[entering], row[entering]
     return [(pivot * part - less * other) // size for part, other in zip(row, lead)]
+
+
+def inverted(rows):
+    """A number size, not 0, and a table of numbers by which as many ROWS as they are long come to size times units.
+
+    The table times rows is size times the unit ROWS; the rank of rows has to be their number.
+    """
+    many = len(rows)
+    table = [list(row) + list(unit) for row, unit in zip(rows, unit_rows(many))]
+    size = 1
+    for place in range(many):
+        # Steps that stay whole, as with best_weights.
+        chosen = [k for k in range(place, many) if table[k][place] != 0][0]
+        table[place], table[chosen] = table[chosen], table[place]
+        lead = table[place]
+        table = [lead if k == place else cleared_row(table[k], lead, place, size) for k in range(many)]
+        size = lead[place]
+    return size, [row[many:] for row in table]

@@ -7,7 +7,7 @@ from pathlib import Path
 
 FOLDER = Path(__file__).parent / "examples"
 FILES = ("errors", "powers", "rows", "spaces", "views", "lots", "kinds", "holds", "reasons", "breaks", "region", "bounds",
-         "flags", "covers", "bases")
+         "flags", "covers", "bases", "chances", "weights", "groups", "loops")
 
 
 def all_names():
@@ -48,7 +48,7 @@ class Examples(unittest.TestCase):
                 else:
                     count += 1
                     self.assertEqual(result, behind, line)
-        self.assertEqual(count, 104)
+        self.assertEqual(count, 130)
 
     def test_readme(self):
         failed, count = doctest.testfile(str(FOLDER.parent.parent / "README.md"), module_relative=False)

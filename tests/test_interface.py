@@ -63,6 +63,27 @@ FUNCTIONS = {
         base_mix(size,rows,shares) is_base_mix(size,rows,shares,thing) short_flat(size,rows,shares)
         is_short_flat(size,rows,shares,thing) even_line(size,rows) tight_flat(size,rows)
         cheap_basis(size,rows,heights) cost_steps(size,rows,heights) is_cost_steps(size,rows,heights,thing)""",
+    "chances": """is_chances(thing,size) even_chances(lot) is_even(chances) chances_seen(view,chances)
+        given_seen(view,chances) width(chances) width_given(view,chances) tells(view,second,chances)
+        in_common(view,second,chances) chances_mixed(parts) chances_beside(one,other) chances_shifted(chances,point)
+        left_over(sight,shares,chances) hold_at(sight,shares,chances) is_breaking(sight,shares,thing)""",
+    "weights": """is_weight(view,thing) is_weights(sight,thing) laid(weight,image) mass(weight,many) greatest(weight)
+        product_at(sight,weights,point) total(sight,weights,lot) carried(sight,weights) whole_total(sight,weights)
+        limit(sight,shares,weights) is_within_limit(sight,shares,weights) ones(sight,lot) weight_times(weight,much)
+        moved(sight,weights,point)""",
+    "groups": """is_pspace(prime,size,thing) pspan(prime,rows) pspaces(prime,size) ppoints(prime,size,space)
+        at_prime(prime,space) pdims(prime,sight,space) pkinds(prime,sight) pholds(prime,sight,shares)
+        pbest(prime,sight,shares) pbreak(prime,sight,shares) is_pbreak(prime,sight,shares,thing)
+        worse_primes(sight,shares) is_group(thing) is_hom(group,thing) is_subgroup(group,thing) all_elements(group)
+        hom_image(group,hom,part) made_by(group,part) subgroups(group) residues(sight,number)
+        part_worth(group,homs,shares,part) best_subgroups(group,homs,shares) least_number(group,homs,shares)
+        groups_hold(group,homs,shares) groups_beside(group,homs,other,more)""",
+    "loops": """is_nest(thing) nest_points(nest) touched(nest,lot) is_order(nest,thing) fewest_loads(nest,order,store)
+        keeping(nest,order,store) is_keeping(nest,order,store,thing) fence(nest,order,store)
+        is_fence(nest,order,store,thing) best_loads(nest,store) best_order(nest,store) most_done(shares,cells)
+        told_loads(nest,shares,store) blocked(nest,base,sides) block_cells(nest,base,sides)
+        best_sides(nest,base,store) flag_base(size,flag) is_flag_base(size,flag,thing) flag_sides(size,flag,number)
+        flag_blocks(nest,flag,base,store)""",
 }
 
 
