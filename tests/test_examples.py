@@ -7,7 +7,8 @@ from pathlib import Path
 
 FOLDER = Path(__file__).parent / "examples"
 FILES = ("errors", "powers", "rows", "spaces", "views", "lots", "kinds", "holds", "reasons", "breaks", "region", "bounds",
-         "flags", "covers", "bases", "chances", "weights", "groups", "loops")
+         "flags", "covers", "bases", "chances", "weights", "groups", "loops",
+         "judge", "texts", "board", "desk")
 
 
 def all_names():
@@ -48,7 +49,7 @@ class Examples(unittest.TestCase):
                 else:
                     count += 1
                     self.assertEqual(result, behind, line)
-        self.assertEqual(count, 130)
+        self.assertEqual(count, 156)
 
     def test_readme(self):
         failed, count = doctest.testfile(str(FOLDER.parent.parent / "README.md"), module_relative=False)

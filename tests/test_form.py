@@ -11,15 +11,18 @@ FILES = sorted(FOLDER.glob("*.py"))
 
 # Files draw only from those ahead of them (the interface's order; values stands ahead of all).
 ORDER = ["errors", "values", "powers", "rows", "spaces", "views", "lots", "kinds", "holds", "reasons", "breaks", "region",
-         "bounds", "flags", "covers", "bases", "chances", "weights", "modulo", "groups", "stores", "loops"]
+         "bounds", "flags", "covers", "bases", "chances", "weights", "modulo", "groups", "stores", "loops",
+         "judge", "texts", "board", "desk"]
 
 LIBRARY = {"math": {"gcd", "lcm", "isqrt", "comb", "perm", "factorial"}}
 
 BUILTINS = set("""len range enumerate zip min max sum abs sorted reversed int str bool list tuple dict set isinstance ord repr any
     all divmod ValueError TypeError KeyError IndexError LookupError""".split())
 
-METHODS = set("""append clear copy count endswith extend find get index insert isdigit items join keys pop remove replace reverse
-    rfind rstrip setdefault split startswith strip update values zfill bit_length""".split())
+METHODS = set("""append clear copy count endswith extend find get index insert isascii isdigit items join keys partition pop remove
+    replace reverse rfind rstrip setdefault split startswith strip update values zfill bit_length""".split())
+
+DOUBLES = {"__init__", "__len__", "__eq__"}
 
 BARRED = set("""register mro elements open input law version_info with_traceback add_note attrgetter breakpoint builtins compile
     copyright credits delattr dir eval exec exit gc getattr globals hasattr help id importlib license locals methodcaller os quit
@@ -28,12 +31,14 @@ BARRED = set("""register mro elements open input law version_info with_traceback
 # Parameters of the interface that their functions have no need of.
 UNREAD = {"hom_image": "group", "limit": "sight"}
 
+OWN_ERRORS = {"NoView", "NoNumber", "NoWord", "NothingDone", "Unfit", "NoPaper", "TooMany", "BadText", "BadLine"}
+
 NODES = (
     ast.Module, ast.FunctionDef, ast.ClassDef, ast.ImportFrom, ast.alias, ast.arguments, ast.arg, ast.Expr, ast.Constant,
     ast.Assign, ast.If, ast.While, ast.For, ast.Return, ast.Break, ast.Continue, ast.Pass, ast.Raise, ast.Name, ast.Load,
     ast.Store, ast.Tuple, ast.List, ast.Dict, ast.Set, ast.Call, ast.Attribute, ast.Subscript, ast.Slice, ast.BinOp, ast.UnaryOp,
     ast.BoolOp, ast.Compare, ast.IfExp, ast.ListComp, ast.SetComp, ast.DictComp, ast.comprehension, ast.operator, ast.unaryop,
-    ast.boolop, ast.cmpop, ast.JoinedStr, ast.FormattedValue, ast.Delete, ast.Del,
+    ast.boolop, ast.cmpop, ast.JoinedStr, ast.FormattedValue, ast.Delete, ast.Del, ast.Try, ast.ExceptHandler,
 )
 
 
@@ -82,8 +87,21 @@ class Form(unittest.TestCase):
                 if isinstance(node, ast.Delete):
                     self.assertTrue(all(isinstance(part, ast.Subscript) for part in node.targets), place)
                 if isinstance(node, ast.FormattedValue):
-                    self.assertIsInstance(node.value, ast.Name, place)
-                    self.assertEqual([part.value for part in node.format_spec.values], ["b"], place)
+                    # No string inside the braces.
+                    self.assertFalse(any(isinstance(part, ast.Constant) for part in ast.walk(node.value)), place)
+                    self.assertEqual(node.conversion, -1, place)
+                    if node.format_spec is not None:
+                        self.assertEqual([part.value for part in node.format_spec.values], ["b"], place)
+                if isinstance(node, ast.Try):
+                    # Only own errors are caught, by their names.
+                    self.assertEqual((node.finalbody, node.orelse), ([], []), place)
+                    for handler in node.handlers:
+                        caught = handler.type.elts if isinstance(handler.type, ast.Tuple) else [handler.type]
+                        self.assertTrue(all(part.id in OWN_ERRORS for part in caught), place)
+                        self.assertIsNone(handler.name, place)
+                if isinstance(node, ast.Raise):
+                    self.assertIsNone(node.cause, place)
+                    self.assertIn(node.exc.func.id, OWN_ERRORS, place)
                 if isinstance(node, ast.Constant):
                     self.assertNotIsInstance(node.value, (float, complex, bytes, type(...)), place)
                 if isinstance(node, ast.Compare):
@@ -161,15 +179,26 @@ class Form(unittest.TestCase):
             for node in tree.body:
                 for name in stores(node):
                     place = (path.name, node.lineno, name)
-                    self.assertTrue(name in ("__init__", "_") or not hasattr(builtins, name), place)
                     self.assertNotIn(name, BARRED, place)
-                    self.assertRegex(name, r"\A(_|_?[A-Za-z][A-Za-z0-9_]*|__init__)\Z", place)
+                    if name in DOUBLES:
+                        self.assertIsInstance(node, ast.ClassDef, place)
+                        continue
+                    self.assertTrue(name == "_" or not hasattr(builtins, name), place)
+                    self.assertRegex(name, r"\A(_|_?[A-Za-z][A-Za-z0-9_]*)\Z", place)
+                    self.assertNotRegex(name, r"\A(_wall|_pe_|_dcw_|_enum_|_cm_|_twin_re_|_lay_|_law_|_stub_|_sre|_WallAttr)", place)
+                    self.assertNotRegex(name, r"\A(_cold|_tuplegetter|_outside|_record|_written_out|_member_names)", place)
                     if isinstance(node, ast.FunctionDef):
                         self.assertNotIn(name, fixed, place)
             read = [node.id for node in ast.walk(tree) if isinstance(node, ast.Name) and isinstance(node.ctx, ast.Load)]
             self.assertNotIn("_", read, path)
 
     def test_calls(self):
+        classes = [node for _, tree in trees() for node in ast.walk(tree) if isinstance(node, ast.ClassDef)]
+        methods = {part.name for node in classes for part in node.body if isinstance(part, ast.FunctionDef)} - DOUBLES
+        kept = {part.attr for node in classes for part in ast.walk(node) if isinstance(part, ast.Attribute) and isinstance(part.ctx, ast.Store)}
+        self.assertFalse(kept & methods)
+        for kind in (str, list, dict, set, bytes, int, tuple):
+            self.assertFalse((kept | methods) & set(dir(kind)))
         for path, tree in trees():
             own = set(stores(tree))
             parents = {child: node for node in ast.walk(tree) for child in ast.iter_child_nodes(node)}
@@ -184,17 +213,18 @@ class Form(unittest.TestCase):
                     self.assertEqual(node.keywords, [], place)
                     self.assertFalse(any(isinstance(arg, ast.Starred) for arg in node.args), place)
                     if isinstance(node.func, ast.Attribute):
-                        self.assertIn(node.func.attr, METHODS, place)
+                        self.assertTrue(node.func.attr in METHODS or node.func.attr in methods, place)
                     if isinstance(node.func, ast.Name) and node.func.id in LIBRARY["math"]:
                         self.assertIn(len(node.args), (1, 2), place)
                 if isinstance(node, (ast.Set, ast.SetComp)) or self.is_call_of(node, "set"):
                     # Sets are only sorted on the spot.
                     self.assertTrue(self.is_call_of(parents[node], "sorted") or self.is_call_of(parents[node], "len"), place)
-                if isinstance(node, ast.Attribute) and not isinstance(parents[node], ast.Call):
-                    self.assertIsInstance(node.ctx, ast.Store, place)
-                    self.assertEqual(node.value.id, "self", place)
+                if isinstance(node, ast.Attribute) and not (isinstance(parents[node], ast.Call) and parents[node].func is node):
+                    # An attribute of an own object, of this class, assigned by its __init__.
+                    self.assertIn(node.attr, kept, place)
+                    self.assertIn(node.value.id, ("self", "other"), place)
                 for word in ("zip", "enumerate", "range", "reversed"):
-                    if self.is_call_of(node, word) and not any(self.is_call_of(parents[node], kind) for kind in ("list", "tuple")):
+                    if self.is_call_of(node, word) and not any(self.is_call_of(parents[node], kind) for kind in ("list", "tuple", "enumerate", "reversed")):
                         self.assertIsInstance(parents[node], (ast.For, ast.comprehension), place)
 
     def is_call_of(self, node, name):
@@ -227,7 +257,7 @@ class Form(unittest.TestCase):
                 if isinstance(node, ast.Constant) and isinstance(node.value, str) and id(node) not in docs:
                     self.assertNotRegex(node.value, r"%|__|\btype\b|\benum\b", (path.name, node.lineno))
             for node in ast.walk(tree):
-                if isinstance(node, ast.FunctionDef) and node.name != "__init__":
+                if isinstance(node, ast.FunctionDef) and node.name not in DOUBLES:
                     self.assertTrue(ast.get_docstring(node), (path.name, node.name))
 
     def test_words(self):

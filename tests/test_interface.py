@@ -84,10 +84,38 @@ FUNCTIONS = {
         told_loads(nest,shares,store) blocked(nest,base,sides) block_cells(nest,base,sides)
         best_sides(nest,base,store) flag_base(size,flag) is_flag_base(size,flag,thing) flag_sides(size,flag,number)
         flag_blocks(nest,flag,base,store)""",
+    "judge": """is_claim(thing) is_so(claim) paper(claim) is_paper(claim,thing) shows(claim,thing) about(claim,sight)
+        not_so(claims) turned_by(claims,sight)""",
+    "texts": """fraction_text(fraction) rows_text(rows) shares_text(shares) powers_text(powers) flag_text(flag)
+        sight_text(sight) reason_text(reason) fraction_in(text) rows_in(text) shares_in(text) powers_in(text)
+        flag_in(text) sight_in(text) reason_in(text)""",
+    "desk": """is_request(line) replies(size,text) last_board(size,text)""",
 }
+
+BOARD = """sight() shares() sizes() deeds() __len__() view(view,share,told) drop(number) row(number,row) cut(number,place)
+    share(number,share) told(number,told) do(deed) undo() redo() behind(m) holds() excess() bound() turns() spare()
+    is_plan(deeds) twin() __eq__(other)"""
 
 
 class Interface(unittest.TestCase):
+    def test_board(self):
+        module = importlib.import_module("seenlots.board")
+        self.assertTrue(inspect.isclass(module.Board))
+        self.assertEqual(module.Board.__module__, "seenlots.board")
+        self.assertEqual(module.Board.__bases__, (object,))
+        self.assertEqual(list(inspect.signature(module.Board).parameters), ["size"])
+        for text in BOARD.split():
+            name, _, names = text[:-1].partition("(")
+            function = vars(module.Board)[name]
+            self.assertTrue(inspect.isfunction(function), name)
+            self.assertEqual(list(inspect.signature(function).parameters)[1:], names.split(",") if names else [], name)
+
+    def test_all_files(self):
+        # In this order a file draws from those ahead of it alone.
+        order = ["errors"] + [file for file in FUNCTIONS if file != "desk"] + ["board", "desk"]
+        self.assertEqual(order, "errors powers rows spaces views lots kinds holds reasons breaks region bounds flags covers bases chances "
+                         "weights groups loops judge texts board desk".split())
+
     def test_functions(self):
         for file, told in FUNCTIONS.items():
             module = importlib.import_module("seenlots." + file)
