@@ -14,6 +14,9 @@ MOST_ROWS = 3
 # Requests of one word alone.
 BARE = ("undo", "redo", "holds", "excess", "most", "spare", "sight", "deeds")
 
+# Requests that are DEEDS of a Board as they stand.
+DEEDS = ("drop", "row", "cut", "share", "told")
+
 # What stands behind the first word of the others: a number, a FRACTION, a ROW, ROWS; the last one up to the end.
 PARTS = {
     "view": ("fraction", "number", "rows"), "drop": ("number",), "row": ("number", "row"), "cut": ("number", "number"),
@@ -98,7 +101,7 @@ def done(board, request):
     elif word == "view":
         _, share, told, rows = request
         board.view(rows, share, told)
-    elif word in PARTS and word != "kernel" and word != "dims":
+    elif word in DEEDS:
         board.do(request)
     else:
         return seen(board, request)

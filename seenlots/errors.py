@@ -35,7 +35,7 @@ class NoPaper(ValueError):
 
 
 class TooMany(ValueError):
-    """There would be too many POINTS."""
+    """There would be too many of them."""
 
 
 class BadText(ValueError):

@@ -129,9 +129,15 @@ class Over(unittest.TestCase):
 
     def test_greater_sights(self):
         # Six VIEWS of three ROWS; and a size beyond the bounds.
-        for sight in [sight for sight in some_sights(74, 40, 99, sizes=(3,), views=6) if len(sight[1]) > 4] + some_sights(75, 2, 1, sizes=(4,)):
+        for sight in [sight for sight in some_sights(74, 40, 99, sizes=(3,), views=6) if len(sight[1]) > 4] + some_sights(75, 4, 1, sizes=(4,)):
             for prime in (2, 3, 7) if sight[0] == 3 else (2, 3):
-                self.assertEqual(pkinds(prime, sight), tuple(sorted({pdims(prime, sight, space) for space in pspaces(prime, sight[0])})))
+                kinds = {space: pdims(prime, sight, space) for space in pspaces(prime, sight[0])}
+                self.assertEqual(pkinds(prime, sight), tuple(sorted(set(kinds.values()))))
+                shares = ((1, 3),) * len(sight[1])
+                much, low, high = pbest(prime, sight, shares)
+                best = [space for space, kind in kinds.items() if told_excess(shares, kind) == value(much)]
+                self.assertEqual(much, fraction(max(told_excess(shares, kind) for kind in kinds.values())))
+                self.assertEqual((low, high), (min(best, key=len), max(best, key=len)))
 
     def test_best(self):
         for number, sight in enumerate(SIGHTS):

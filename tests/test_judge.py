@@ -140,9 +140,9 @@ def claims_of(sight, seed):
     some = Random(seed)
     found = [("apart", sight)]
     found += [("hold", sight, shares) for shares in some_shares(seed, sight, 1)[::3]]
-    for heights in some_heights(seed, sight, 2):
+    for heights in some.sample(some_heights(seed, sight, 2), 3):
         just = Fraction(3, 2) if is_blind(sight) else value(least_sum(sight, heights)[0])
-        for much in {just, just - Fraction(1, 12), just + Fraction(1, 10 ** 12), Fraction(some.randint(-3, 30), some.randint(1, 12)), Fraction(0), Fraction(-5, 7)}:
+        for much in sorted({just, just - Fraction(1, 12), just + Fraction(1, 10 ** 12), Fraction(some.randint(-3, 30), some.randint(1, 12)), Fraction(0), Fraction(-5, 7)}):
             found += [(word, sight, heights, fraction(much)) for word in ("worth", "reach")]
     others = [other for other in SIGHTS if len(other[1]) == len(sight[1])]
     found += [("within", sight, other) for other in some.sample(others, min(3, len(others)))]
